@@ -7,8 +7,8 @@ import (
 	"loop.example/g00182/impl"
 )
 
-// made is a function of chapter 5, with the name that a failure tells; those
-// of one array have it as b, and leave a alone.
+// made is a function that makes an array of one or two, with the name that a
+// failure tells; those of one array have it as b, and leave a alone.
 type made struct {
 	name string
 	does func(a impl.Array, b impl.Array) (impl.Array, int)
@@ -587,13 +587,17 @@ func TestNotOneNumber(t *testing.T) {
 	}
 }
 
-func TestMakingOfWrongOnes(t *testing.T) {
+// refuseWrongOnes is asked of functions of one array and of ones of two: an
+// array that is not right, on either side, counts ahead of all else amiss.
+func refuseWrongOnes(t *testing.T, one []made, two []made) {
+	t.Helper()
+	amiss := []impl.Array{scalar(-1), scalar(top), vector(-1, -2), vector(1, 1, 1, 1), inShape([]int{2, 2}, -1, 2, 3, 301), numberedArray([]int{300})}
 	for _, a := range append(everyWrongArray(), impl.Array{}) {
-		for _, m := range makersOfOne() {
+		for _, m := range one {
 			m.wantOne(t, a, impl.Array{}, impl.ErBad)
 		}
-		for _, m := range makersOfTwo() {
-			for _, b := range append(partners(), a) {
+		for _, m := range two {
+			for _, b := range slices.Concat(partners(), amiss, []impl.Array{a}) {
 				m.wantNone(t, a, b, impl.ErBad)
 				m.wantNone(t, b, a, impl.ErBad)
 			}
@@ -601,18 +605,8 @@ func TestMakingOfWrongOnes(t *testing.T) {
 	}
 }
 
-// An array that is not right counts ahead of all else that is amiss.
-func TestWrongOnesAheadOfOtherCodes(t *testing.T) {
-	wrong := []impl.Array{inShape([]int{2}, 1), inShape(nil, 1, 2), vector(top + 1), inShape([]int{2, 2}, 1, 2, 3, -top-1), {}}
-	amiss := []impl.Array{scalar(-1), scalar(top), vector(-1, -2), vector(1, 1, 1, 1), inShape([]int{2, 2}, -1, 2, 3, 301), numberedArray([]int{300})}
-	for _, a := range amiss {
-		for _, b := range wrong {
-			for _, m := range makersOfTwo() {
-				m.wantNone(t, a, b, impl.ErBad)
-				m.wantNone(t, b, a, impl.ErBad)
-			}
-		}
-	}
+func TestMakingOfWrongOnes(t *testing.T) {
+	refuseWrongOnes(t, makersOfOne(), makersOfTwo())
 }
 
 // pairsToMake has an array of each shape beside ones with which there is an
@@ -629,9 +623,12 @@ func pairsToMake() [][2]impl.Array {
 	return list
 }
 
-func TestMakingIsNewMemory(t *testing.T) {
-	for _, p := range pairsToMake() {
-		for _, m := range append(makersOfOne(), makersOfTwo()...) {
+// wantNewMemory is asked of each function with each pair, and with the first
+// of the pair on both sides.
+func wantNewMemory(t *testing.T, makers []made, pairs [][2]impl.Array) {
+	t.Helper()
+	for _, p := range pairs {
+		for _, m := range makers {
 			g, h := guard(p[0]), guard(p[1])
 			wantOwnMemory(t, func() impl.Array { x, _ := m.does(g.array, h.array); return x }, g, h)
 			g = guard(p[0])
@@ -640,16 +637,26 @@ func TestMakingIsNewMemory(t *testing.T) {
 	}
 }
 
-// Whatever has an answer has a right array, and nothing else has anything.
-func TestMadeOnesAreRight(t *testing.T) {
-	for _, p := range pairsToMake() {
-		for _, m := range append(makersOfOne(), makersOfTwo()...) {
+func TestMakingIsNewMemory(t *testing.T) {
+	wantNewMemory(t, append(makersOfOne(), makersOfTwo()...), pairsToMake())
+}
+
+// wantRightOrNothing: whatever has an answer has a right array, and nothing
+// else has anything.
+func wantRightOrNothing(t *testing.T, makers []made, pairs [][2]impl.Array) {
+	t.Helper()
+	for _, p := range pairs {
+		for _, m := range makers {
 			x, code := m.does(p[0], p[1])
 			if code == impl.ErNone && !impl.ArrayOk(x) || code != impl.ErNone && !alike(x, impl.Array{}) {
 				t.Errorf("%s(%v, %v) = %v, %d", m.name, p[0], p[1], x, code)
 			}
 		}
 	}
+}
+
+func TestMadeOnesAreRight(t *testing.T) {
+	wantRightOrNothing(t, append(makersOfOne(), makersOfTwo()...), pairsToMake())
 }
 
 // One list may be the Shape and the Data of an argument, and of both.
