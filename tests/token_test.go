@@ -503,17 +503,21 @@ func TestLexEveryShortText(t *testing.T) {
 	}
 }
 
+// drawing draws numbers from 0 up to below n, by a fixed rule.
+func drawing(seed uint32) func(n int) int {
+	return func(n int) int {
+		seed = seed*1664525 + 1013904223
+		return int(seed>>8) % n
+	}
+}
+
 // longTexts are drawn by a fixed rule: right lines of each length, and some
 // with one wrong piece in them.
 func longTexts(count int) []string {
 	pieces := []string{" ", "  ", "0", "00", "7", "12", "_3", "_0", "1000000000000", "_1000000000000", "_999999999999", "A", "Z", "(", ")", ":"}
 	pieces = append(pieces, strings.Split(everySign, "")...)
 	wrong := []string{"x", "_", "_ ", "1000000000001", "_1000000000001", "é", "\x80", "B_"}
-	seed := uint32(20)
-	draw := func(n int) int {
-		seed = seed*1664525 + 1013904223
-		return int(seed>>8) % n
-	}
+	draw := drawing(20)
 	var list []string
 	for range count {
 		var text strings.Builder
