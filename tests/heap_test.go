@@ -293,7 +293,7 @@ func TestHeapOkOfTwoCells(t *testing.T) {
 	}
 }
 
-// Every heap of few words and up to two cells.
+// Few words, at each Top, with up to two cells of all small numbers.
 func TestSmallHeaps(t *testing.T) {
 	cells := []impl.Cell{{}, {From: 1}, {Long: 1}, {Long: -1}, {From: -1}, {From: 1, Long: -1}}
 	for from := -1; from <= 4; from++ {
