@@ -212,14 +212,41 @@ func codesToRun(t *testing.T) [][]impl.Instr {
 	return list
 }
 
-func wantOwnRun(t *testing.T, code []impl.Instr, vars []impl.Var, steps int) {
+// wantOutcomeApart asks that a write into any list of the answer turns no other
+// one, nor another answer.
+func wantOutcomeApart(t *testing.T, answered func() outcome) {
 	t.Helper()
-	wantListsApart(t, func() [][]int { return listsOf(runOf(code, vars, steps)) })
-	got, was := runOf(code, vars, steps), copiedOutcome(runOf(code, vars, steps))
+	wantListsApart(t, func() [][]int { return listsOf(answered()) })
+	got, was := answered(), copiedOutcome(answered())
 	lists := listsOf(got)
 	scribbleVars(got.vars)
 	if !slices.EqualFunc(lists, listsOf(was), slices.Equal) {
 		t.Errorf("a write into the letters turns what they were: %v, %v", lists, was)
+	}
+	if !sameOutcome(answered(), was) {
+		t.Errorf("a write into an answer turns another one: %v, %v", answered(), was)
+	}
+}
+
+func wantOwnRun(t *testing.T, code []impl.Instr, vars []impl.Var, steps int) {
+	t.Helper()
+	wantOutcomeApart(t, func() outcome { return runOf(code, vars, steps) })
+}
+
+// wantOutcomeKept writes over an answer, and over what was handed in: neither
+// may turn another answer, nor the first one what was handed in.
+func wantOutcomeKept(t *testing.T, g guardedMachine, want outcome, answered func() outcome) {
+	t.Helper()
+	first, second := answered(), answered()
+	g.check(t)
+	for _, list := range listsOf(first) {
+		scribble(list)
+	}
+	scribbleVars(first.vars)
+	g.check(t)
+	g.scribble()
+	if !sameOutcome(second, want) {
+		t.Errorf("an answer shares memory with another one or with an argument: %v, %v", second, want)
 	}
 }
 
@@ -235,16 +262,7 @@ func TestRunIsNewMemory(t *testing.T) {
 					wantOwnRun(t, g.code.code, g.line.vars, steps)
 					g.check(t)
 				}
-				first, second := runOf(g.code.code, g.line.vars, steps), runOf(g.code.code, g.line.vars, steps)
-				for _, list := range listsOf(first) {
-					scribble(list)
-				}
-				scribbleVars(first.vars)
-				g.check(t)
-				g.scribble()
-				if !sameOutcome(second, want) {
-					t.Errorf("an answer shares memory with another one or with an argument: %v, %v", second, want)
-				}
+				wantOutcomeKept(t, g, want, func() outcome { return runOf(g.code.code, g.line.vars, steps) })
 			}
 		}
 	}

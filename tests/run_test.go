@@ -106,27 +106,36 @@ func TestRunLetters(t *testing.T) {
 	wantRun(t, code, someVars(), 30, outcome{vector(6, 7), all, impl.ErNone, 3})
 }
 
-// What one run sets the next one has.
-func TestRunLineByLine(t *testing.T) {
+// A told is a line, and what it comes to behind those ahead of it.
+type told struct {
+	text string
+	want impl.Array
+	code int
+}
+
+// wantTold runs lines one behind the other: what one of them sets the next one
+// has.
+func wantTold(t *testing.T, lines []told, then []impl.Var, run func(code []impl.Instr, vars []impl.Var) outcome) {
+	t.Helper()
 	vars := impl.VarsNew()
-	for _, c := range []struct {
-		text string
-		want impl.Array
-		code int
-	}{
+	for _, c := range lines {
+		got := run(wantedCode(lineTree(t, c.text).Nodes), vars)
+		if !alike(got.array, c.want) || got.code != c.code {
+			t.Errorf("%q comes to %v, %d; want %v, %d", c.text, got.array, got.code, c.want, c.code)
+		}
+		vars = got.vars
+	}
+	if !sameVars(vars, then) {
+		t.Error("behind all runs the letters are", vars)
+	}
+}
+
+func TestRunLineByLine(t *testing.T) {
+	wantTold(t, []told{
 		{"A", impl.Array{}, impl.ErValue}, {"A : i 4", vector(0, 1, 2, 3), 0}, {"+ / A", scalar(6), 0}, {"B : 2 2 # A", inShape([]int{2, 2}, 0, 1, 2, 3), 0}, {"A : B + . * B", inShape([]int{2, 2}, 2, 3, 6, 11), 0},
 		{"A : 1 , A : 9 % 0", impl.Array{}, impl.ErDomain}, {"A", inShape([]int{2, 2}, 2, 3, 6, 11), 0}, {"( 1 2 + 1 2 3 ) , C : 7", impl.Array{}, impl.ErLength}, {"C", impl.Array{}, impl.ErValue},
 		{"B : A : 0 # 0", vector(), 0}, {"A , 3", vector(3), 0},
-	} {
-		array, then, how, _ := impl.Run(wantedCode(lineTree(t, c.text).Nodes), vars, 100)
-		if !alike(array, c.want) || how != c.code {
-			t.Errorf("%q comes to %v, %d; want %v, %d", c.text, array, how, c.want, c.code)
-		}
-		vars = then
-	}
-	if want := varsWith("AB", vector(), vector()); !sameVars(vars, want) {
-		t.Error("behind all runs the letters are", vars)
-	}
+	}, varsWith("AB", vector(), vector()), func(code []impl.Instr, vars []impl.Var) outcome { return runOf(code, vars, 100) })
 }
 
 // With a code the letters are as they were, whatever was set ahead of it.
