@@ -168,14 +168,19 @@ func TestCodePackCounts(t *testing.T) {
 	wantPacked(t, looseBytes(60, code...), code...)
 }
 
-func TestCodePackNumbers(t *testing.T) {
+// numbersToPack have each byte of theirs at its edges.
+func numbersToPack() []int {
 	list := rightNumbers()
 	for shift := range 40 {
 		for _, x := range []int{1<<shift - 1, 1 << shift, 1<<shift + 1} {
 			list = append(list, min(x, top), -min(x, top), top-min(x, top), min(x, top)-top)
 		}
 	}
-	for _, x := range list {
+	return list
+}
+
+func TestCodePackNumbers(t *testing.T) {
+	for _, x := range numbersToPack() {
 		b, ok := impl.CodePack(codeOf(numInstr(x)))
 		if !ok || len(b) != 16 || int(binary.LittleEndian.Uint64(b[8:])) != x+top {
 			t.Error("CodePack of", x, "=", b, ok)
@@ -251,30 +256,70 @@ func TestCodeReadCutShortAndLong(t *testing.T) {
 	}
 }
 
+// A readCount is how many lists of bytes were told to be right, and how many
+// not.
+type readCount struct{ right, wrong int }
+
+func (c *readCount) count(is bool) {
+	if is {
+		c.right++
+	} else {
+		c.wrong++
+	}
+}
+
+func (c *readCount) want(t *testing.T, least int) {
+	t.Helper()
+	if c.right < least || c.wrong < least {
+		t.Error("the test itself hardly asks for both:", *c)
+	}
+}
+
+// eachByteChanged has each byte in turn as each other one, left out, and
+// doubled; b is the same again behind it.
+func (c *readCount) eachByteChanged(b []byte, read func(b []byte) bool) {
+	for at, was := range b {
+		for x := range 256 {
+			b[at] = byte(x)
+			c.count(read(b))
+		}
+		b[at] = was
+		read(slices.Delete(slices.Clone(b), at, at+1))
+		read(slices.Insert(slices.Clone(b), at, 0))
+		read(slices.Insert(slices.Clone(b), at, was))
+	}
+}
+
+// spoiled has bytes close to b: one left out, put in, turned, or changed with
+// another one, as is drawn.
+func (c *readCount) spoiled(b []byte, times int, draw func(n int) int, read func(b []byte) bool) {
+	for range times {
+		at, other := draw(len(b)), draw(len(b))
+		list := slices.Clone(b)
+		switch draw(5) {
+		case 0:
+			list = slices.Delete(list, at, at+1)
+		case 1:
+			list = slices.Insert(list, at, byte(draw(256)))
+		case 2:
+			list[at] = byte(draw(6))
+		case 3:
+			list[at] ^= 1 << draw(8)
+		default:
+			list[at], list[other] = list[other], list[at]
+		}
+		c.count(read(list))
+	}
+}
+
 // Each byte is in turn each other one: nearly always there is no code then,
 // and where there is it is that of the changed bytes.
 func TestCodeReadEachByteChanged(t *testing.T) {
-	right, wrong := 0, 0
+	var c readCount
 	for _, code := range codesToSpoil() {
-		b := looseBytes(len(code), code...)
-		for at, was := range b {
-			for x := range 256 {
-				b[at] = byte(x)
-				if wantReadAsModel(t, b) {
-					right++
-				} else {
-					wrong++
-				}
-			}
-			b[at] = was
-			wantReadAsModel(t, slices.Delete(slices.Clone(b), at, at+1))
-			wantReadAsModel(t, slices.Insert(slices.Clone(b), at, 0))
-			wantReadAsModel(t, slices.Insert(slices.Clone(b), at, was))
-		}
+		c.eachByteChanged(looseBytes(len(code), code...), func(b []byte) bool { return wantReadAsModel(t, b) })
 	}
-	if right < 1000 || wrong < 1000 {
-		t.Error("the test itself hardly asks for both:", right, wrong)
-	}
+	c.want(t, 1000)
 }
 
 // changed is the bytes of code with one of them another one.
@@ -337,6 +382,19 @@ func TestCodeReadOneByteWrong(t *testing.T) {
 	}
 }
 
+// bytesBeyond are eight bytes each that tell more than the greatest number.
+func bytesBeyond() []uint64 {
+	return []uint64{2*top + 1, 2*top + 2, 3 * top, 1 << 41, 1 << 48, 1 << 56, 1 << 62, 1<<63 - 1, 1 << 63, 1<<63 + 1, 1<<63 + top, 1<<63 + 2*top, math.MaxUint64 - top, math.MaxUint64 - 1, math.MaxUint64}
+}
+
+func bytesNearEachBit() []uint64 {
+	var list []uint64
+	for shift := range 64 {
+		list = append(list, 1<<shift-1, 1<<shift, 1<<shift+1, 1<<shift+top, 1<<shift-top, 1<<shift+2*top, -(1 << shift))
+	}
+	return list
+}
+
 func TestCodeReadNumbersBeyond(t *testing.T) {
 	withNumber := func(x uint64) []byte {
 		return binary.LittleEndian.AppendUint64([]byte{1, 1, 0, 0, 0, 0, 1, 0}, x)
@@ -344,16 +402,14 @@ func TestCodeReadNumbersBeyond(t *testing.T) {
 	for _, x := range []uint64{0, 1, top - 1, top, top + 1, 2*top - 1, 2 * top} {
 		wantRead(t, withNumber(x), numInstr(int(x)-top))
 	}
-	for _, x := range []uint64{2*top + 1, 2*top + 2, 3 * top, 1 << 41, 1 << 48, 1 << 56, 1 << 62, 1<<63 - 1, 1 << 63, 1<<63 + 1, 1<<63 + top, 1<<63 + 2*top, math.MaxUint64 - top, math.MaxUint64 - 1, math.MaxUint64} {
+	for _, x := range bytesBeyond() {
 		wantNotRead(t, withNumber(x))
 		b := binary.LittleEndian.AppendUint64(looseBytes(1, numInstr(5)), x)
 		b[6] = 2
 		wantNotRead(t, b)
 	}
-	for shift := range 64 {
-		for _, x := range []uint64{1<<shift - 1, 1 << shift, 1<<shift + 1, 1<<shift + top, 1<<shift - top, 1<<shift + 2*top, -(1 << shift)} {
-			wantReadAsModel(t, withNumber(x))
-		}
+	for _, x := range bytesNearEachBit() {
+		wantReadAsModel(t, withNumber(x))
 	}
 }
 
@@ -398,6 +454,20 @@ func TestCodeReadCountsOfNumbers(t *testing.T) {
 	wantNotRead(t, slices.Repeat([]byte{1}, 100000))
 }
 
+// everyBytes reads all lists of that many bytes of choice, and tells how many
+// are right.
+func everyBytes(choice []int, long int, read func(b []byte) bool) int {
+	var c readCount
+	everyList(choice, long, func(list []int) {
+		b := make([]byte, len(list))
+		for i, x := range list {
+			b[i] = byte(x)
+		}
+		c.count(read(b))
+	})
+	return c.right
+}
+
 func TestCodeReadEveryShortList(t *testing.T) {
 	for x := range 256 {
 		wantNotRead(t, []byte{byte(x)})
@@ -410,51 +480,19 @@ func TestCodeReadEveryShortList(t *testing.T) {
 		choice []int
 		long   int
 	}{{[]int{0, 1, 2, 3, 5, 25, 26, 255}, 5}, {[]int{0, 1, 2, 3, 25, 26}, 6}, {[]int{0, 1, 2, 4}, 8}, {[]int{0, 2, 3}, 11}} {
-		everyList(c.choice, c.long, func(list []int) {
-			b := make([]byte, len(list))
-			for i, x := range list {
-				b[i] = byte(x)
-			}
-			if wantReadAsModel(t, b) {
-				right++
-			}
-		})
+		right += everyBytes(c.choice, c.long, func(b []byte) bool { return wantReadAsModel(t, b) })
 	}
 	if right < 5 {
 		t.Error("the test itself finds only", right, "that are code")
 	}
 }
 
-// Bytes close to those of code: some left out, put in, turned, or changed with
-// others, by a fixed rule.
+// Bytes close to those of code, by a fixed rule.
 func TestCodeReadSpoiled(t *testing.T) {
+	var c readCount
 	draw := drawing(41)
-	right, wrong := 0, 0
 	for _, code := range grownCodes(600) {
-		b := looseBytes(len(code), code...)
-		for range 12 {
-			at, other := draw(len(b)), draw(len(b))
-			list := slices.Clone(b)
-			switch draw(5) {
-			case 0:
-				list = slices.Delete(list, at, at+1)
-			case 1:
-				list = slices.Insert(list, at, byte(draw(256)))
-			case 2:
-				list[at] = byte(draw(6))
-			case 3:
-				list[at] ^= 1 << draw(8)
-			default:
-				list[at], list[other] = list[other], list[at]
-			}
-			if wantReadAsModel(t, list) {
-				right++
-			} else {
-				wrong++
-			}
-		}
+		c.spoiled(looseBytes(len(code), code...), 12, draw, func(b []byte) bool { return wantReadAsModel(t, b) })
 	}
-	if right < 500 || wrong < 500 {
-		t.Error("the test itself hardly asks for both:", right, wrong)
-	}
+	c.want(t, 500)
 }

@@ -19,10 +19,8 @@ func arrayIn(words []int) (impl.Array, bool) {
 		if words[0] != rank || len(words) <= rank {
 			continue
 		}
-		shape, data := words[1:1+rank], words[1+rank:]
-		tooGreat := func(x int) bool { return x > top || x < -top }
-		if wantedSize(shape) == len(data) && !slices.ContainsFunc(data, tooGreat) {
-			return impl.Array{Shape: shape, Data: data}, true
+		if a := inShape(words[1:1+rank], words[1+rank:]...); wantedArrayOk(a) {
+			return a, true
 		}
 	}
 	return impl.Array{}, false
